@@ -1,0 +1,1 @@
+"""Wires between two rows of pins, in one plane."""
