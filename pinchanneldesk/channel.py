@@ -1,10 +1,17 @@
 """The calls on two rows of pins, and what they answer."""
 
+from pinchanneldesk.drawings import read_wires
+from pinchanneldesk.drawings import what_is_wrong
+from pinchanneldesk.geometry import all_wires
+from pinchanneldesk.geometry import has_point
 from pinchanneldesk.geometry import least_width
 from pinchanneldesk.geometry import narrow_net
+from pinchanneldesk.geometry import pieces_along
+from pinchanneldesk.geometry import room_bounds
 from pinchanneldesk.geometry import shift_bounds
 from pinchanneldesk.geometry import some_shift_does
 from pinchanneldesk.geometry import wire_corners
+from pinchanneldesk.reader import Reader
 
 GREATEST_PIN = 1000000000
 MOST_NETS = 64
@@ -164,6 +171,103 @@ def told_wire(corners):
     return answer
 
 
+def route(desk, given):
+    h = given[0]
+    refusal = width_refusal(desk, h)
+    if refusal is not None:
+        return [refusal]
+    answer = [len(desk.lower_pins)]
+    for corners in all_wires(desk.lower_pins, desk.upper_pins, h):
+        answer.extend(told_wire(corners))
+    return answer
+
+
+def length(desk, given):
+    h = given[0]
+    refusal = width_refusal(desk, h)
+    if refusal is not None:
+        return [refusal]
+    # A wire drawn never turns back, so it is as long as its pins are apart, along and upright together.
+    return [sum([abs(a - b) + h + 1 for b, a in zip(desk.lower_pins, desk.upper_pins)])]
+
+
+def track(desk, given):
+    h = given[0]
+    y = given[1]
+    refusal = width_refusal(desk, h)
+    if refusal is not None:
+        return [refusal]
+    if not 1 <= y <= h:
+        return [OUT_OF_RANGE]
+    pieces = []
+    for net, corners in enumerate(all_wires(desk.lower_pins, desk.upper_pins, h)):
+        for left, right in pieces_along(corners, y):
+            pieces.append((net, left, right))
+    answer = [len(pieces)]
+    for piece in pieces:
+        answer.extend(piece)
+    return answer
+
+
+def at(desk, given):
+    h = given[0]
+    refusal = width_refusal(desk, h)
+    if refusal is not None:
+        return [refusal]
+    for net, corners in enumerate(all_wires(desk.lower_pins, desk.upper_pins, h)):
+        if has_point(corners, given[1], given[2]):
+            return [1, net]
+    return [0]
+
+
+def check(desk, given):
+    h = given[0]
+    if not is_width(h):
+        return [OUT_OF_RANGE]
+    wires = read_wires(given[1])
+    if wires is None:
+        return [BAD_ROWS]
+    return what_is_wrong(desk.lower_pins, desk.upper_pins, h, wires)
+
+
+def room(desk, given):
+    net = given[0]
+    h = given[1]
+    if not has_net(desk, net):
+        return [NO_SUCH_NET]
+    if not is_width(h):
+        return [OUT_OF_RANGE]
+    bounds = room_bounds(desk.lower_pins, desk.upper_pins, net, h, GREATEST_PIN)
+    return [1, bounds[0], bounds[1]] if bounds[0] <= bounds[1] else [0]
+
+
+def move(desk, given):
+    net = given[0]
+    a = given[1]
+    if not has_net(desk, net):
+        return [NO_SUCH_NET]
+    if not is_pin(a):
+        return [OUT_OF_RANGE]
+    upper = desk.upper_pins[:net] + [a] + desk.upper_pins[net + 1:]
+    if not rises_strictly(upper):
+        return [BAD_ROWS]
+    desk.upper_pins = upper
+    return [0]
+
+
+def turn(desk, given):
+    lower = desk.lower_pins
+    desk.lower_pins = desk.upper_pins
+    desk.upper_pins = lower
+    return [0]
+
+
+def mirror(desk, given):
+    desk.lower_pins = [-pin for pin in reversed(desk.lower_pins)]
+    desk.upper_pins = [-pin for pin in reversed(desk.upper_pins)]
+    return [0]
+
+
 # Of each call: what answers it, how many whole numbers it has, and how many rows behind these.
 CALLS = {
     0: (pins, 0, 2),
@@ -176,30 +280,16 @@ CALLS = {
     7: (best, 0, 0),
     8: (shift, 1, 0),
     9: (wire, 2, 0),
+    10: (route, 1, 0),
+    11: (length, 1, 0),
+    12: (track, 2, 0),
+    13: (at, 3, 0),
+    14: (check, 1, 1),
+    15: (room, 2, 0),
+    16: (move, 2, 0),
+    17: (turn, 0, 0),
+    18: (mirror, 0, 0),
 }
-
-
-class Reader:
-    """A walk through the calls, number by number; it changes its own place alone."""
-
-    def __init__(self, calls):
-        self.calls = calls
-        self.place = 0
-
-    def has_more(self):
-        return self.place < len(self.calls)
-
-    def read_number(self):
-        number = self.calls[self.place]
-        self.place += 1
-        return number
-
-    def read_row(self):
-        size = self.read_number()
-        # A slice is a copy, so a row may be kept and changed later on.
-        row = self.calls[self.place:self.place + size]
-        self.place += size
-        return row
 
 
 def answer_call(desk, reader):

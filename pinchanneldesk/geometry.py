@@ -1,4 +1,4 @@
-"""Widths, shifts and wires of two rows of pins.
+"""Widths, shifts, room and wires of two rows of pins.
 
 The rows are lists of whole numbers that rise strictly; net i has the pins lower[i] and upper[i].
 """
@@ -38,6 +38,24 @@ def some_shift_does(bounds):
     return bounds is None or bounds[0] <= bounds[1]
 
 
+def room_bounds(lower, upper, net, h, greatest_pin):
+    """What the net's upper pin must at least and may at most be while all other pins stay.
+
+    No number does where the first one is greater than the second one.
+    """
+    floors = [-greatest_pin]
+    ceilings = [greatest_pin]
+    if net > 0:
+        floors.append(upper[net - 1] + 1)
+    if net + 1 < len(upper):
+        ceilings.append(upper[net + 1] - 1)
+    if net >= h:
+        floors.append(lower[net - h] + h)
+    if net + h < len(lower):
+        ceilings.append(lower[net + h] - h)
+    return (max(floors), min(ceilings))
+
+
 def wire_corners(lower, upper, net, h):
     """The corners, each as (x, y), of the net's wire in a channel of h tracks that is wide enough."""
     b = lower[net]
@@ -72,3 +90,28 @@ def count_alike(numbers):
     for number in numbers:
         counts[number] = counts.get(number, 0) + 1
     return counts
+
+
+def all_wires(lower, upper, h):
+    """The corners of every net's wire, by nets, in a channel of h tracks that is wide enough."""
+    return [wire_corners(lower, upper, net, h) for net in range(len(lower))]
+
+
+def pieces_along(corners, y):
+    """The least and the greatest x of each piece of a wire that goes along the line y."""
+    pieces = []
+    for one, other in zip(corners, corners[1:]):
+        if one[1] == y and other[1] == y:
+            pieces.append((min(one[0], other[0]), max(one[0], other[0])))
+    return pieces
+
+
+def has_point(corners, x, y):
+    for one, other in zip(corners, corners[1:]):
+        if is_between(x, one[0], other[0]) and is_between(y, one[1], other[1]):
+            return True
+    return False
+
+
+def is_between(number, one, other):
+    return one <= number <= other or other <= number <= one

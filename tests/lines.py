@@ -40,6 +40,49 @@ def wire(net, h):
     return [9, net, h]
 
 
+def route(h):
+    return [10, h]
+
+
+def length(h):
+    return [11, h]
+
+
+def track(h, y):
+    return [12, h, y]
+
+
+def at(h, x, y):
+    return [13, h, x, y]
+
+
+def check_row(h, row):
+    """The call check with its row as it stands, whether it can be read or not."""
+    return [14, h, len(row)] + list(row)
+
+
+def check(h, *wires):
+    """The call check of a drawing of these wires, each a list of corners."""
+    return check_row(h, [number for corners in wires for number in flat(corners)])
+
+
+def room(net, h):
+    return [15, net, h]
+
+
+def move(net, a):
+    return [16, net, a]
+
+
+TURN = [17]
+MIRROR = [18]
+
+
+def flat(corners):
+    """A wire as it is told: how many corners, then x and y of each."""
+    return [len(corners)] + [number for corner in corners for number in corner]
+
+
 def take_apart(told):
     """The answers of a line, one list each; the counts before them must fit exactly."""
     apart = []

@@ -3,86 +3,13 @@
 import itertools
 import unittest
 
-from lines import BEST, LEAST, fits, pins, range_of, run, wire
-
-PLACES = 6
-SHIFTS = range(-2 * PLACES, 2 * PLACES + 1)
-
-
-def small_nets():
-    """All two rows of pins from 0 to PLACES - 1."""
-    for size in range(PLACES + 1):
-        rows = list(itertools.combinations(range(PLACES), size))
-        for lower in rows:
-            for upper in rows:
-                yield lower, upper
-
-
-def is_wide_enough(lower, upper, h):
-    return not narrow_nets(lower, upper, h)
-
-
-def narrow_nets(lower, upper, h):
-    return [
-        i for i in range(len(lower))
-        if i + h < len(lower) and not (lower[i + h] - upper[i] >= h and upper[i + h] - lower[i] >= h)
-    ]
-
-
-def told_least(lower, upper):
-    return next(h for h in range(100) if is_wide_enough(lower, upper, h))
-
-
-def told_range(lower, upper, h):
-    doing = [d for d in SHIFTS if is_wide_enough(lower, [a + d for a in upper], h)]
-    if len(doing) == len(SHIFTS):
-        return [2]
-    return [1, doing[0], doing[-1]] if doing else [0]
-
-
-def told_best(lower, upper):
-    for h in range(100):
-        told = told_range(lower, upper, h)
-        if told != [0]:
-            return [h] + told[1:]
-
-
-def told_corners(lower, upper, i, h):
-    b, a = lower[i], upper[i]
-    if a == b:
-        return [(b, 0), (b, h + 1)]
-    if a > b:
-        marks = [lower[i + k] - k for k in range(1, len(lower) - i)]
-        between = sorted({c for c in marks if b < c < a})
-    else:
-        marks = [lower[i - k] + k for k in range(1, i + 1)]
-        between = sorted({c for c in marks if a < c < b}, reverse=True)
-
-    def height(x):
-        return 1 + sum(1 for c in marks if (c <= x if a > b else c >= x))
-
-    corners = [(b, 0), (b, height(b))]
-    for c in between:
-        corners.append((c, corners[-1][1]))
-        corners.append((c, height(c)))
-    corners.append((a, corners[-1][1]))
-    corners.append((a, h + 1))
-    return corners
-
-
-def boxes(corners):
-    """The straight pieces, each as least x, greatest x, least y, greatest y."""
-    return [
-        (min(x1, x2), max(x1, x2), min(y1, y2), max(y1, y2))
-        for (x1, y1), (x2, y2) in zip(corners, corners[1:])
-    ]
-
-
-def meet(one, other):
-    return any(
-        p[0] <= q[1] and q[0] <= p[1] and p[2] <= q[3] and q[2] <= p[3]
-        for p in boxes(one) for q in boxes(other)
-    )
+from lines import (
+    BEST, LEAST, LIST, MIRROR, TURN, at, check, fits, flat, length, move, pins, range_of, room, route, run, track, wire,
+)
+from words import (
+    PLACES, meet, narrow_nets, small_nets, told_at, told_best, told_corners, told_least, told_length, told_range,
+    told_room, told_track, told_wires,
+)
 
 
 class AllSmall(unittest.TestCase):
@@ -131,6 +58,65 @@ class AllSmall(unittest.TestCase):
             for h in range(told_least(lower, upper)):
                 told = run(pins(lower, upper), *[wire(i, h) for i in range(len(lower))])
                 self.assertEqual(told[1:], [[-5]] * len(lower), (lower, upper, h))
+
+    def test_too_narrow_for_the_calls_of_all_wires(self):
+        for lower, upper in small_nets():
+            for h in range(told_least(lower, upper)):
+                told = run(pins(lower, upper), route(h), length(h), track(h, 1), track(h, h + 1), at(h, lower[0], 0))
+                self.assertEqual(told[1:], [[-5]] * 5, (lower, upper, h))
+
+    def test_routes_and_lengths(self):
+        for lower, upper in small_nets():
+            least = told_least(lower, upper)
+            for h in (least, least + 1, 1000):
+                wires = told_wires(lower, upper, h)
+                expected = [len(wires)] + [number for corners in wires for number in flat(corners)]
+                told = run(pins(lower, upper), route(h), length(h), check(h, *wires))
+                self.assertEqual(told[1:], [expected, [told_length(wires)], [0]], (lower, upper, h))
+
+    def test_tracks(self):
+        for lower, upper in small_nets():
+            least = told_least(lower, upper)
+            for h in (least, least + 1):
+                wires = told_wires(lower, upper, h)
+                told = run(pins(lower, upper), *[track(h, y) for y in range(h + 2)])
+                expected = [[-2]] + [told_track(wires, y) for y in range(1, h + 1)] + [[-2]]
+                self.assertEqual(told[1:], expected, (lower, upper, h))
+
+    def test_points(self):
+        for lower, upper in small_nets():
+            h = told_least(lower, upper)
+            wires = told_wires(lower, upper, h)
+            points = list(itertools.product(range(-1, PLACES + 1), range(-1, h + 3)))
+            told = run(pins(lower, upper), *[at(h, x, y) for x, y in points])
+            self.assertEqual(told[1:], [told_at(wires, x, y) for x, y in points], (lower, upper))
+
+    def test_room(self):
+        for lower, upper in small_nets():
+            asked = list(itertools.product(range(len(lower)), range(len(lower) + 2)))
+            told = run(pins(lower, upper), *[room(i, h) for i, h in asked])
+            self.assertEqual(told[1:], [told_room(lower, upper, i, h) for i, h in asked], (lower, upper))
+
+    def test_move(self):
+        for lower, upper in small_nets():
+            for i, a in itertools.product(range(len(lower)), range(-1, PLACES + 1)):
+                moved = list(upper)
+                moved[i] = a
+                rises = moved == sorted(set(moved))
+                row = moved if rises else upper
+                nets = [len(lower)] + [pin for net in zip(lower, row) for pin in net]
+                told = run(pins(lower, upper), move(i, a), LIST)
+                self.assertEqual(told[1:], [[0] if rises else [-3], nets], (lower, upper, i, a))
+
+    def test_turned_and_mirrored(self):
+        for lower, upper in small_nets():
+            low = [-pin for pin in reversed(lower)]
+            high = [-pin for pin in reversed(upper)]
+            for change, rows in ((TURN, (upper, lower)), (MIRROR, (low, high)), (TURN + MIRROR, (high, low))):
+                expected = run(pins(*rows), LIST, LEAST, BEST, route(len(lower)), length(len(lower)))
+                calls = [[call] for call in change]
+                told = run(pins(lower, upper), *calls, LIST, LEAST, BEST, route(len(lower)), length(len(lower)))
+                self.assertEqual(told[1:], [[0]] * len(calls) + expected[1:], (lower, upper))
 
 
 if __name__ == "__main__":

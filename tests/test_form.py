@@ -31,6 +31,17 @@ WORDS = re.compile(
     r"\b(type|typing|typing_extensions|enum|Enum|IntEnum|StrEnum|Flag|IntFlag|Generic|Protocol|ABC|ABCMeta"
     r"|namedtuple|NamedTuple|TypedDict|TYPE_CHECKING|abstractmethod)\b|dataclass|overload|contextmanager"
 )
+NOT_USED = set(
+    "register mro elements open input version_info with_traceback add_note attrgetter breakpoint builtins compile"
+    " copyright credits delattr dir eval exec exit gc getattr globals hasattr help id importlib license locals"
+    " methodcaller os quit setattr super vars sys __name__".split()
+)
+WALKED = {"zip", "enumerate", "reversed", "range"}
+WALKERS = {"list", "tuple", "dict", "sorted", "sum", "any", "all", "enumerate", "zip", "min", "max"}
+KEYWORDS = {
+    "sorted": {"key", "reverse"}, "min": {"key", "default"}, "max": {"key", "default"}, "sum": {"start"},
+    "enumerate": {"start"}, "zip": {"strict"},
+}
 PLAIN_NAME = re.compile(r"[A-Za-z][A-Za-z0-9_]*\Z")
 
 
@@ -44,6 +55,22 @@ def trees():
 
 def nodes(kind):
     return [(name, node) for name, tree in trees() for node in ast.walk(tree) if isinstance(node, kind)]
+
+
+def called(node):
+    """The name that a call by name calls, None of anything else."""
+    return node.func.id if isinstance(node, ast.Call) and isinstance(node.func, ast.Name) else None
+
+
+def parents(tree):
+    return {part: node for node in ast.walk(tree) for part in ast.iter_child_nodes(node)}
+
+
+def is_walked(node, parent):
+    """Whether what the node gives is walked on the spot, by a loop or by something that is called."""
+    if isinstance(parent, (ast.For, ast.comprehension)):
+        return parent.iter is node
+    return called(parent) in WALKERS and parent.args[0] is node or called(parent) == "zip"
 
 
 def bound_names(tree):
@@ -140,6 +167,47 @@ class Form(unittest.TestCase):
             self.assertRegex(node.attr, PLAIN_NAME, (name, node.lineno))
             if isinstance(node.ctx, ast.Store):
                 self.assertNotIn(node.attr, METHODS | own, (name, node.lineno))
+
+    def test_names_that_are_not_used(self):
+        for name, node in nodes((ast.Name, ast.Attribute)):
+            word = node.id if isinstance(node, ast.Name) else node.attr
+            self.assertNotIn(word, NOT_USED, (name, node.lineno))
+
+    def test_walked_at_once(self):
+        for name, tree in trees():
+            above = parents(tree)
+            for node in ast.walk(tree):
+                if called(node) in WALKED:
+                    self.assertTrue(is_walked(node, above[node]), (name, node.lineno))
+                if called(node) == "set":
+                    self.assertIn(called(above[node]), ("sorted", "len"), (name, node.lineno))
+                self.assertNotIsInstance(node, (ast.Set, ast.Pow), name)
+
+    def test_keywords(self):
+        for name, node in nodes(ast.Call):
+            given = {word.arg for word in node.keywords}
+            self.assertLessEqual(given, KEYWORDS.get(called(node), set()), (name, node.lineno))
+
+    def test_no_local_is_called_like_a_class_or_an_import(self):
+        for name, tree in trees():
+            taken = {node.name for node in tree.body if isinstance(node, ast.ClassDef)}
+            taken |= {part.name for node in tree.body if isinstance(node, ast.ImportFrom) for part in node.names}
+            for node in ast.walk(tree):
+                if isinstance(node, ast.arg):
+                    self.assertNotIn(node.arg, taken, name)
+                if isinstance(node, ast.Name) and isinstance(node.ctx, ast.Store):
+                    self.assertNotIn(node.id, taken, (name, node.lineno))
+
+    def test_imports_come_from_the_file_that_defines(self):
+        defined = {}
+        for name, tree in trees():
+            defined["pinchanneldesk." + name[:-3]] = {
+                part.name for part in tree.body if isinstance(part, (ast.FunctionDef, ast.ClassDef))
+            }
+        for name, node in nodes(ast.ImportFrom):
+            for part in node.names:
+                self.assertIn(part.name, defined[node.module], (name, node.lineno))
+                self.assertIsNone(part.asname, (name, node.lineno))
 
     def test_is_beside_none_true_and_false_alone(self):
         for name, node in nodes(ast.Compare):
